@@ -1,0 +1,104 @@
+"""The examples of the document that use what has landed, as they are written there."""
+
+import ast
+import re
+import unittest
+
+from tests.helpers import same
+from withintwo import errors
+
+EXAMPLES = [
+    """
+>>> from withintwo.tables import beside, image_of, is_signed_web, is_table, is_web, neighbours, parts_of, square_of, weight_of, within
+>>> PATH = ((0, 1, 0), (1, 0, 1), (0, 1, 0))
+>>> [is_web(PATH), is_signed_web(((0, -1), (-1, 0))), is_web(((0, -1), (-1, 0))), is_table(((1, 2), (3, 4))), neighbours(PATH, 1), weight_of(PATH, (1, -1, 1)), square_of((1, -1, 1)), image_of(PATH, (1, -1, 1))]
+[True, True, False, False, (0, 2), -4, 3, (-1, 2, -1)]
+>>> [parts_of(beside(PATH, ((1,),))), within(PATH, (0, 2)), is_table(((True,),)), is_table(())]
+[((0, 1, 2), (3,)), ((0, 0), (0, 0)), False, False]
+>>> from withintwo.turnings import back, both, judge_signs, led, plain_signs, row_led, sign_along, signs_hold, turning_between
+>>> THREE, BENT = ((0, 1, 1), (1, 0, 1), (1, 1, 0)), ((0, -1, 1), (-1, 0, 1), (1, 1, 0))
+>>> [sign_along(THREE, (0, 1, 2)), sign_along(BENT, (2, 0, 1)), signs_hold(THREE, BENT, ('ring', (0, 1, 2))), judge_signs(THREE, BENT)[0], turning_between(THREE, BENT)]
+[1, -1, True, 'ring', None]
+>>> turn = ((1, 2, 0), (1, -1, 1))
+>>> [led(BENT, turn), row_led(BENT, turn, (5, 7, 9)), both(BENT, turn, turn), back(BENT, turn), plain_signs(((0, -1, -1), (-1, 0, -1), (-1, -1, 0)))]
+[((0, 1, -1), (1, 0, 1), (-1, 1, 0)), (9, 5, -7), ((2, 0, 1), (-1, -1, 1)), ((2, 0, 1), (1, 1, -1)), ((0, 1, 1), (1, 0, -1), (1, -1, 0))]
+>>> judge_signs(THREE, ((0, 1, 1), (1, 2, 1), (1, 1, 0)))
+('pair', 1, 1)
+>>> from withintwo.texts import read_table, text_of
+>>> [text_of(((0, 1), (1, -3))), read_table('table 2\\n0\\n1 -3')]
+['table 2\\n0\\n1 -3', ((0, 1), (1, -3))]
+>>> read_table('table 2\\n0\\n1')
+raises BadText(3)
+""",
+    """
+>>> from withintwo.valuepolys import moved_poly, poly_value, sign_changes, value_poly
+>>> path, three = ((0, 1, 0), (1, 0, 1), (0, 1, 0)), ((0, 1, 1), (1, 0, 1), (1, 1, 0))
+>>> [value_poly(path), value_poly(three), poly_value((-2, -3, 0, 1), (1, 2)), moved_poly((-1, 0, 1), (1, 1)), sign_changes(((1, 1), (0, 1), (-2, 3), (5, 1)))]
+[(0, -2, 0, 1), (-2, -3, 0, 1), (-27, 8), ((0, 1), (2, 1), (1, 1)), 2]
+>>> from withintwo.values import kept_base, many_values, power_sum, value_at, whole_values
+>>> path, three = ((0, 1, 0), (1, 0, 1), (0, 1, 0)), ((0, 1, 1), (1, 0, 1), (1, 1, 0))
+>>> [many_values(three, (-1, 1)), whole_values(three), kept_base(three, -1), kept_base(three, 2), power_sum(three, 3), value_at(path, 2, 10), value_at(path, 0, 0)]
+[(0, 2, 1), ((-1, 2), (2, 1)), ((1, 0, -1), (0, 1, -1)), ((1, 1, 1),), 6, 1448, -2]
+>>> from withintwo.squares import low_holds, high_holds, written_holds
+>>> pair, three = ((0, 1), (1, 0)), ((0, 1, 1), (1, 0, 1), (1, 1, 0))
+>>> [low_holds(three, (-1, 1), ('squares', (((1, 1), (1, 1, 1)),))), low_holds(three, (0, 1), ('low', (1, -1, 0))), high_holds(three, (3, 2), ('high', (1, 1, 1))), written_holds(pair, (0, 1), (((1, 2), (1, 1)), ((-1, 2), (1, -1)))), written_holds(pair, (0, 1), (((1, 1), (1, 1)),))]
+[True, True, True, True, False]
+>>> from withintwo.squares import judge_low
+>>> judge_low(((0,),), (0, 1))
+('squares', ())
+>>> from withintwo.values import value_at
+>>> value_at(((0, 1), (1, 0)), 2, 3)
+raises BadPlace(2)
+""",
+    """
+>>> from withintwo.roots import base_of, is_root, parts_of_root, product_of, rank_of, roots_of, row_for
+>>> TWO = ((0, 1), (1, 0))
+>>> [roots_of(TWO), base_of(TWO), rank_of(TWO), is_root(TWO, (1, 1)), product_of(TWO, (1, -1), (1, 2)), parts_of_root(TWO, (2, 1)), parts_of_root(TWO, (-1, 1))]
+[((-2, -1), (-1, -2), (-1, 1), (1, -1), (1, 2), (2, 1)), ((1, -1), (1, 2)), 2, False, -1, (1, 1), (-1, 0)]
+>>> SQUARE = ((0, 1, 0, 1), (1, 0, 1, 0), (0, 1, 0, 1), (1, 0, 1, 0))
+>>> rank_of(SQUARE)
+3
+""",
+]
+
+
+def steps_of(text):
+    """The pairs of a line behind the sign >>> and the line that it shows, None where it shows none."""
+    lines = [line for line in text.split("\n") if line]
+    for at, line in enumerate(lines):
+        if line.startswith(">>> "):
+            shown = lines[at + 1] if at + 1 < len(lines) and not lines[at + 1].startswith(">>> ") else None
+            yield line[4:], shown
+
+
+class ExampleTests(unittest.TestCase):
+    def test_examples(self):
+        shown_ones = 0
+        for text in EXAMPLES:
+            names = {}
+            for line, shown in steps_of(text):
+                if shown is None:
+                    exec(line, names)
+                    continue
+                shown_ones += 1
+                failure = re.fullmatch(r"raises (\w+)\((.*)\)", shown)
+                if failure is None:
+                    told = eval(line, names)
+                    self.assertTrue(same(told, ast.literal_eval(shown)), (line, told))
+                    continue
+                with self.assertRaises(errors.TableError) as caught:
+                    eval(line, names)
+                wanted = getattr(errors, failure[1])
+                self.assertIs(type(caught.exception), wanted)
+                value = next(iter(vars(wanted(ast.literal_eval(failure[2]))).items()))
+                self.assertTrue(same(getattr(caught.exception, value[0]), value[1]), line)
+        self.assertEqual(shown_ones, 14)
+
+    def test_row_for_two_places(self):
+        # The document shows (1, -1); with two places that do not depend on one another it is the only row.
+        from withintwo.roots import row_for
+        self.assertEqual(row_for(((0, 1), (1, 0)), (1, -1)), (1, -1))
+
+
+if __name__ == "__main__":
+    unittest.main()

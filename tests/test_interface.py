@@ -1,0 +1,87 @@
+"""The interface: each name in its file, its parameters with their names, passed by position or by name."""
+
+import importlib
+import inspect
+import unittest
+
+from tests.helpers import same
+
+PATH = ((0, 1, 0), (1, 0, 1), (0, 1, 0))
+PAIR = ((0, 1), (1, 0))
+TURN = ((1, 2, 0), (1, -1, 1))
+# For each file the functions, and for each of these its parameters with one right value each.
+INTERFACE = {
+    "tables": {
+        "is_table": {"thing": PATH}, "is_looped_web": {"thing": PATH}, "is_signed_web": {"thing": PATH},
+        "is_web": {"thing": PATH}, "is_lot": {"table": PATH, "thing": (0, 2)}, "is_row": {"table": PATH, "thing": (1, 2, 3)},
+        "neighbours": {"table": PATH, "place": 1}, "parts_of": {"table": PATH}, "is_joined": {"table": PATH},
+        "within": {"table": PATH, "lot": (0, 2)}, "beside": {"one": PATH, "other": PAIR}, "square_of": {"row": (1, 2)},
+        "weight_of": {"table": PATH, "row": (1, 2, 3)}, "image_of": {"table": PATH, "row": (1, 2, 3)},
+        "opposite": {"table": PATH},
+    },
+    "turnings": {
+        "is_turning": {"table": PATH, "thing": TURN}, "led": {"table": PATH, "turning": TURN},
+        "row_led": {"table": PATH, "turning": TURN, "row": (1, 2, 3)},
+        "both": {"table": PATH, "first": TURN, "second": ((0, 2, 1), (1, 1, -1))}, "back": {"table": PATH, "turning": TURN},
+        "judge_signs": {"one": PATH, "other": PATH}, "signs_hold": {"one": PATH, "other": PATH, "thing": ("signs", (1, 1, 1))},
+        "sign_along": {"table": ((0, -1, 1), (-1, 0, 1), (1, 1, 0)), "ring": (0, 1, 2)},
+        "turning_between": {"one": PATH, "other": PATH}, "plain_signs": {"table": PATH},
+    },
+    "texts": {"text_of": {"table": PATH}, "read_table": {"text": "table 1\n5"}},
+    "valuepolys": {
+        "value_poly": {"table": PATH}, "poly_value": {"poly": (1, 2, 3), "number": (1, 2)},
+        "moved_poly": {"poly": (1, 2, 3), "number": (1, 2)}, "sign_changes": {"numbers": ((1, 2), (-1, 2))},
+    },
+    "values": {
+        "many_values": {"table": PATH, "number": (1, 2)}, "value_at": {"table": PATH, "place": 2, "bits": 5},
+        "whole_values": {"table": PATH}, "power_sum": {"table": PATH, "k": 4}, "kept_base": {"table": PATH, "whole": 0},
+        "is_kept": {"table": PATH, "whole": 0, "thing": (1, 0, -1)},
+    },
+    "squares": {
+        "written": {"table": PATH, "number": (1, 2)}, "written_holds": {"table": ((1,),), "number": (0, 1), "thing": (((1, 1), (1,)),)},
+        "judge_low": {"table": PATH, "number": (1, 2)}, "low_holds": {"table": PATH, "number": (1, 2), "thing": ("low", (1, -1, 0))},
+        "judge_high": {"table": PATH, "number": (1, 2)}, "high_holds": {"table": PATH, "number": (1, 2), "thing": ("high", (1, 1, 0))},
+    },
+    "roots": {
+        "roots_of": {"table": PATH}, "is_root": {"table": PAIR, "thing": (2, 1)}, "base_of": {"table": PATH}, "rank_of": {"table": PATH},
+        "row_for": {"table": PAIR, "root": (1, -1)}, "product_of": {"table": PAIR, "one": (1, -1), "other": (1, 2)},
+        "parts_of_root": {"table": PAIR, "root": (2, 1)},
+    },
+}
+
+
+class InterfaceTests(unittest.TestCase):
+    def each(self):
+        for file, functions in INTERFACE.items():
+            module = importlib.import_module(f"withintwo.{file}")
+            for name, values in functions.items():
+                yield getattr(module, name), name, f"withintwo.{file}", values
+
+    def test_names_and_parameters(self):
+        for function, name, file, values in self.each():
+            self.assertTrue(inspect.isfunction(function), name)
+            self.assertEqual((function.__name__, function.__module__), (name, file))
+            parameters = inspect.signature(function).parameters
+            self.assertEqual(list(parameters)[:len(values)], list(values), name)
+            for parameter in list(parameters.values())[:len(values)]:
+                self.assertIs(parameter.kind, parameter.POSITIONAL_OR_KEYWORD, name)
+
+    def test_by_position_and_by_name(self):
+        for function, name, _, values in self.each():
+            told = function(*values.values())
+            self.assertTrue(same(function(**values), told), name)
+            self.assertTrue(same(function(**dict(list(values.items())[::-1])), told), name)
+            first, *more = values.items()
+            self.assertTrue(same(function(first[1], **dict(more)), told), name)
+
+    def test_whether_functions_return_bools(self):
+        for function, name, _, values in self.each():
+            if name.startswith("is_") or name.endswith(("_hold", "_holds")):
+                self.assertIs(function(**values), True, name)
+                values = dict(values)
+                values["thing" if "thing" in values else "table"] = None if "thing" in values else ((0, 0), (0, 0))
+                self.assertIs(function(**values), False, name)
+
+
+if __name__ == "__main__":
+    unittest.main()

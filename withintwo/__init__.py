@@ -1,0 +1,1 @@
+"""Withintwo: whole symmetric tables that weigh every row between -2 and 2."""

@@ -1,0 +1,46 @@
+"""Product tables, the refusal of webs that are not good, and the roots with rows that tell them."""
+
+from withintwo.errors import BadWeb, TooLow
+from withintwo.squares import judge_low
+from withintwo.tables import is_signed_web
+
+BOUND = (-2, 1)
+
+
+def need_good(table):
+    """Refuse a value that is no signed web, then one that is not good."""
+    if not is_signed_web(table):
+        raise BadWeb(table)
+    word, told = judge_low(table, BOUND)
+    if word == "low":
+        raise TooLow(told)
+
+
+def product_table(table):
+    """The product table of a signed web."""
+    places = range(len(table))
+    return tuple([tuple([2 if i == j else table[i][j] for j in places]) for i in places])
+
+
+def rows_of_roots(table):
+    """A dict from each root of a good signed web to a row that tells it."""
+    products = product_table(table)
+    places = range(len(table))
+    rows = {}
+    for place in places:
+        if products[place] not in rows:
+            rows[products[place]] = tuple([1 if other == place else 0 for other in places])
+    # Mirrors of places lead from the roots of the places to all others.
+    queue = list(rows)
+    at = 0
+    while at < len(queue):
+        root = queue[at]
+        row = rows[root]
+        for place in places:
+            amount = root[place]
+            moved = tuple([item - amount * less for item, less in zip(root, products[place])])
+            if moved not in rows:
+                rows[moved] = row[:place] + (row[place] - amount,) + row[place + 1:]
+                queue.append(moved)
+        at += 1
+    return rows
