@@ -298,8 +298,10 @@ class SignsTests(Case):
             self.whether(is_certificate(THREE, THREE, thing), signs_hold, THREE, THREE, thing)
 
     def test_errors(self):
-        for function in (judge_signs, lambda one, other: signs_hold(one, other, None)):
-            function.__name__ = "judge_signs or signs_hold"
+        def no_signs_hold(one, other):
+            return signs_hold(one, other, None)
+
+        for function in (judge_signs, no_signs_hold):
             for wrong in WRONG:
                 self.raises(BadTable, wrong, function, wrong, PATH)
                 self.raises(BadTable, wrong, function, PATH, wrong)

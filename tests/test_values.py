@@ -9,6 +9,8 @@ from tests.helpers import (Case, any_values, bent, full_web, random_signed, rand
                            star_web, symmetric, web, zero_table)
 from tests.test_valuepolys import WRONG_FRACTIONS
 from withintwo.errors import BadFraction, BadPlace, BadTable
+from withintwo.squares import judge_high, judge_low, written
+from withintwo.valuepolys import moved_poly, poly_value, value_poly
 from withintwo.values import is_kept, kept_base, many_values, power_sum, value_at, whole_values
 
 PATH = ((0, 1, 0), (1, 0, 1), (0, 1, 0))
@@ -177,6 +179,48 @@ class ValueTests(Case):
             self.assertEqual(sum(many for _, many in values), len(table))
             for k in range(21):
                 self.assertEqual(power_sum(table, k), sum(many * whole ** k for whole, many in values))
+
+
+class AgreementTests(Case):
+    def test_counts_and_values_by_their_numbers(self):
+        for table in some_tables():
+            values = [value_at(table, place, 20) for place in range(len(table))]
+            for number in NUMBERS:
+                below, at, above = many_values(table, number)
+                self.assertEqual(below + at + above, len(table))
+                steps = Fraction(number[0] << 20, number[1])
+                self.assertTrue(all(value <= steps for value in values[:below + at]))
+                self.assertTrue(all(value + 1 > steps for value in values[below:]))
+
+    def test_whole_values_kept_rows_and_counts(self):
+        for table in some_tables():
+            wholes = dict(whole_values(table))
+            for whole in {*range(-3, 4), *wholes}:
+                many = wholes.get(whole, 0)
+                self.assertEqual(many_values(table, (whole, 1))[1], many)
+                self.assertEqual(many_values(table, (7 * whole, 7))[1], many)
+                self.assertEqual(len(kept_base(table, whole)), many)
+                self.assertEqual(poly_value(value_poly(table), (whole, 1)) == (0, 1), many > 0)
+                moved = moved_poly(value_poly(table), (whole, 1))
+                self.assertEqual([item == (0, 1) for item in moved[:many + 1]], [True] * many + [False])
+
+    def test_power_sums_and_polynomials(self):
+        # I. Newton: the coefficients settle the sums of powers of all roots.
+        for table in some_tables():
+            many = len(table)
+            poly = value_poly(table)[::-1]
+            sums = [power_sum(table, k) for k in range(many + 1)]
+            for k in range(1, many + 1):
+                self.assertEqual(k * poly[k], -sum(poly[k - back] * sums[back] for back in range(1, k + 1)))
+
+    def test_writings_and_counts(self):
+        for table in some_tables():
+            for number in NUMBERS[::3]:
+                below, at, above = many_values(table, number)
+                shares = [share for share, _ in written(table, number)]
+                self.assertEqual((sum(top < 0 for top, _ in shares), sum(top > 0 for top, _ in shares)), (below, above))
+                self.assertEqual(judge_low(table, number)[0] == "squares", below == 0)
+                self.assertEqual(judge_high(table, number)[0] == "squares", above == 0)
 
 
 def is_kept_row(table, whole, thing):
