@@ -53,8 +53,8 @@ raises BadPlace(2)
     """
 >>> from withintwo.roots import base_of, is_root, parts_of_root, product_of, rank_of, roots_of, row_for
 >>> TWO = ((0, 1), (1, 0))
->>> [roots_of(TWO), base_of(TWO), rank_of(TWO), is_root(TWO, (1, 1)), product_of(TWO, (1, -1), (1, 2)), parts_of_root(TWO, (2, 1)), parts_of_root(TWO, (-1, 1))]
-[((-2, -1), (-1, -2), (-1, 1), (1, -1), (1, 2), (2, 1)), ((1, -1), (1, 2)), 2, False, -1, (1, 1), (-1, 0)]
+>>> [roots_of(TWO), base_of(TWO), rank_of(TWO), is_root(TWO, (1, 1)), product_of(TWO, (1, -1), (1, 2)), parts_of_root(TWO, (2, 1)), parts_of_root(TWO, (-1, 1)), row_for(TWO, (1, -1))]
+[((-2, -1), (-1, -2), (-1, 1), (1, -1), (1, 2), (2, 1)), ((1, -1), (1, 2)), 2, False, -1, (1, 1), (-1, 0), (1, -1)]
 >>> SQUARE = ((0, 1, 0, 1), (1, 0, 1, 0), (0, 1, 0, 1), (1, 0, 1, 0))
 >>> rank_of(SQUARE)
 3
@@ -93,11 +93,6 @@ class ExampleTests(unittest.TestCase):
                 value = next(iter(vars(wanted(ast.literal_eval(failure[2]))).items()))
                 self.assertTrue(same(getattr(caught.exception, value[0]), value[1]), line)
         self.assertEqual(shown_ones, 14)
-
-    def test_row_for_two_places(self):
-        # The document shows (1, -1); with two places that do not depend on one another it is the only row.
-        from withintwo.roots import row_for
-        self.assertEqual(row_for(((0, 1), (1, 0)), (1, -1)), (1, -1))
 
 
 if __name__ == "__main__":

@@ -85,6 +85,15 @@ class LanguageTests(unittest.TestCase):
                 found += [target.id for target in node.targets]
         return found
 
+    def test_all_imports_are_used(self):
+        for path in files():
+            tree = ast.parse(path.read_text())
+            used = {node.id for node in ast.walk(tree) if isinstance(node, ast.Name)}
+            for node in ast.walk(tree):
+                if isinstance(node, ast.ImportFrom):
+                    for name in node.names:
+                        self.assertIn(name.name, used, path)
+
     def test_no_two_files_import_from_each_other(self):
         imports = {}
         for path in files():

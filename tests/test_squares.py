@@ -217,27 +217,19 @@ class WrittenTests(TermCase):
 
 
 class JudgementTests(TermCase):
-    def test_low(self):
-        for table in TABLES:
-            for number in NUMBERS:
-                told = self.told(judge_low, table, number)
-                self.assertTrue(is_low(table, number, told), (table, number, told))
-                self.assertEqual(told[0] == "low", helpers.inertia(table, Fraction(*number))[0] > 0)
-                self.integers(told)
-                self.whether(True, low_holds, table, number, told)
-                if told[0] == "squares":
-                    self.lowest(told[1])
-
-    def test_high(self):
-        for table in TABLES:
-            for number in NUMBERS:
-                told = self.told(judge_high, table, number)
-                self.assertTrue(is_high(table, number, told), (table, number, told))
-                self.assertEqual(told[0] == "high", helpers.inertia(table, Fraction(*number))[2] > 0)
-                self.integers(told)
-                self.whether(True, high_holds, table, number, told)
-                if told[0] == "squares":
-                    self.lowest(told[1])
+    def test_judgements(self):
+        kinds = ((judge_low, low_holds, is_low, "low", 0), (judge_high, high_holds, is_high, "high", 2))
+        for judge, holds, is_right, word, side in kinds:
+            for table in TABLES:
+                for number in NUMBERS:
+                    told = self.told(judge, table, number)
+                    self.assertTrue(is_right(table, number, told), (table, number, told))
+                    against = helpers.inertia(table, Fraction(*number))[side] > 0
+                    self.assertEqual(told[0], word if against else "squares")
+                    self.integers(told)
+                    self.whether(True, holds, table, number, told)
+                    if told[0] == "squares":
+                        self.lowest(told[1])
 
     def test_at_the_least_and_the_greatest_value(self):
         for table in TABLES:

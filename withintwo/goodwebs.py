@@ -3,6 +3,7 @@
 from withintwo.errors import BadWeb, TooLow
 from withintwo.squares import judge_low
 from withintwo.tables import is_signed_web
+from withintwo.writings import unit_row
 
 BOUND = (-2, 1)
 
@@ -26,10 +27,7 @@ def rows_of_roots(table):
     """A dict from each root of a good signed web to a row that tells it."""
     products = product_table(table)
     places = range(len(table))
-    rows = {}
-    for place in places:
-        if products[place] not in rows:
-            rows[products[place]] = tuple([1 if other == place else 0 for other in places])
+    rows = {products[place]: tuple(unit_row(len(table), place)) for place in places}
     # Mirrors of places lead from the roots of the places to all others.
     queue = list(rows)
     at = 0

@@ -1,11 +1,11 @@
 """The values of a table: how many there are where, which are integers, and the rows kept with them."""
 
-from withintwo.checks import is_integer
 from withintwo.errors import BadPlace
 from withintwo.grids import first_of, powers_of, zero_rows
 from withintwo.ratios import need_fraction
 from withintwo.tables import image_of, is_place_of, is_row_of, need_table
 from withintwo.valuepolys import changes_among, moved_tops, value_poly
+from withintwo.writings import less_on_diagonal
 
 
 def counts_at(poly, number):
@@ -81,9 +81,7 @@ def power_sum(table, k):
 def kept_base(table, whole):
     """The kept base of a table and an integer."""
     need_table(table)
-    places = range(len(table))
-    less = [[table[i][j] - (whole if i == j else 0) for j in places] for i in places]
-    return tuple([tuple(row) for row in zero_rows(less, len(table))])
+    return tuple([tuple(row) for row in zero_rows(less_on_diagonal(table, (whole, 1)), len(table))])
 
 
 def is_kept(table, whole, thing):
