@@ -86,7 +86,7 @@ def match_of_part(one, marks, part, free):
     order = places_joined(one, part[0])
     colours = colours_of(marks[0], part)
     for places in free:
-        if len(places) == len(part) and colours_of(marks[1], places) == colours:
+        if colours_of(marks[1], places) == colours:
             found = match_within(marks, order, places, ((), ()))
             if found is not None:
                 return (places, order, found)
