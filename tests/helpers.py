@@ -317,6 +317,16 @@ def inertia(table, number):
     return (below, many - below - above, above)
 
 
+def is_good(thing):
+    """Whether any value is a signed web that weighs no row below -2 times its square."""
+    return is_signed_web(thing) and inertia(thing, Fraction(-2))[0] == 0
+
+
+def is_low_row(table, thing):
+    """Whether any value is a row that a table weighs below -2 times its square."""
+    return is_row(table, thing) and weight(table, thing) < -2 * square(thing)
+
+
 # ---------------------------------------------------------------- tests
 
 class Case(unittest.TestCase):
@@ -359,6 +369,15 @@ class Case(unittest.TestCase):
         error = self.raised(function, *arguments)
         self.assertIs(type(error), wanted, f"{function.__name__}{arguments!r:.600}")
         self.same(error.thing, thing, arguments)
+
+
+    def too_low(self, table, function, *arguments):
+        """The call raises TooLow with a row that the table weighs too low, of integers that are not too long."""
+        from withintwo.errors import TooLow
+        error = self.raised(function, table, *arguments)
+        self.assertIs(type(error), TooLow, f"{function.__name__}{arguments!r:.600}")
+        self.assertTrue(is_low_row(table, error.row), (table, error.row))
+        self.assertTrue(all(abs(item) < 10 ** 1000 for item in error.row))
 
 
 def seeded(name):

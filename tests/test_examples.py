@@ -55,9 +55,36 @@ raises BadPlace(2)
 >>> TWO = ((0, 1), (1, 0))
 >>> [roots_of(TWO), base_of(TWO), rank_of(TWO), is_root(TWO, (1, 1)), product_of(TWO, (1, -1), (1, 2)), parts_of_root(TWO, (2, 1)), parts_of_root(TWO, (-1, 1)), row_for(TWO, (1, -1))]
 [((-2, -1), (-1, -2), (-1, 1), (1, -1), (1, 2), (2, 1)), ((1, -1), (1, 2)), 2, False, -1, (1, 1), (-1, 0), (1, -1)]
+>>> from withintwo.kinds import holds_kind, kind_table, kinds_of, many_bases, many_roots, root_rows
 >>> SQUARE = ((0, 1, 0, 1), (1, 0, 1, 0), (0, 1, 0, 1), (1, 0, 1, 0))
->>> rank_of(SQUARE)
-3
+>>> STAR = ((0, 1, 1, 1, 1), (1, 0, 0, 0, 0), (1, 0, 0, 0, 0), (1, 0, 0, 0, 0), (1, 0, 0, 0, 0))
+>>> [kinds_of(SQUARE), kinds_of(STAR), rank_of(SQUARE), many_roots(('D', 4)), many_bases(('D', 4)), root_rows(('A', 1)), len(root_rows(('E', 7)))]
+[(('A', 3),), (('D', 4),), 3, 24, 192, ((-2, 2), (2, -2)), 126]
+>>> [kind_table(('D', 4)), holds_kind(('E', 7), ('A', 7)), holds_kind(('E', 6), ('A', 6)), holds_kind(('D', 4), ('A', 4))]
+[((0, -1, 0, 0), (-1, 0, -1, -1), (0, -1, 0, 0), (0, -1, 0, 0)), True, False, False]
+""",
+    """
+>>> from withintwo.lows import good_holds, is_good, judge_good
+>>> STAR = ((0, 1, 1, 1), (1, 0, 0, 0), (1, 0, 0, 0), (1, 0, 0, 0))
+>>> SIX = ((0, 1, 1, 1, 1, 1), (1, 0, 0, 0, 0, 0), (1, 0, 0, 0, 0, 0), (1, 0, 0, 0, 0, 0), (1, 0, 0, 0, 0, 0), (1, 0, 0, 0, 0, 0))
+>>> [is_good(STAR), is_good(SIX), good_holds(SIX, ('low', (-2, 1, 1, 1, 1, 1))), good_holds(SIX, ('low', (-1, 1, 1, 1, 0, 0))), judge_good(STAR)[0]]
+[True, False, True, False, 'rows']
+>>> good_holds(STAR, ('rows', ((2, 2, 0, 0), (2, 0, 2, 0), (2, 0, -2, 0), (0, 2, 0, 2))))
+True
+>>> from withintwo.growing import does_go_on, does_let, going_holds, places_let, with_place
+>>> ONE, TWO = ((0,),), ((0, 1), (1, 0))
+>>> [places_let(ONE), len(places_let(TWO)), with_place(TWO, (0, -1)), does_let(STAR, (1, 1, 1, 1)), does_go_on(STAR), does_go_on(ONE)]
+[((-1,), (0,), (1,)), 9, ((0, 1, 0), (1, 0, -1), (0, -1, 0)), True, True, True]
+>>> from withintwo.kinds import kind_table
+>>> same = ((1, 0, 0, 0, 0, 0), (0, 1, 0, 0, 0, 0), (0, 0, 1, 0, 0, 0), (0, 0, 0, 1, 0, 0), (0, 0, 0, 0, 1, 0), (0, 0, 0, 0, 0, 1))
+>>> [going_holds(kind_table(('E', 6)), ('six', same)), does_go_on(kind_table(('E', 6)))]
+[True, False]
+""",
+    """
+>>> three = ((0, 1, 1), (1, 0, 1), (1, 1, 0))
+>>> from withintwo.bars import bar_number, first_bar, nine_bars
+>>> [bar_number(((0, 1, 1, 1), (1, 0, 0, 0), (1, 0, 0, 0), (1, 0, 0, 0))), bar_number(three), first_bar(((0, 1, 1, 1, 0), (1, 0, 0, 0, 1), (1, 0, 0, 0, 0), (1, 0, 0, 0, 0), (0, 1, 0, 0, 0))), len(nine_bars())]
+[0, None, (0, 1, 2, 3), 9]
 """,
 ]
 
@@ -92,7 +119,7 @@ class ExampleTests(unittest.TestCase):
                 self.assertIs(type(caught.exception), wanted)
                 value = next(iter(vars(wanted(ast.literal_eval(failure[2]))).items()))
                 self.assertTrue(same(getattr(caught.exception, value[0]), value[1]), line)
-        self.assertEqual(shown_ones, 14)
+        self.assertEqual(shown_ones, 20)
 
 
 if __name__ == "__main__":

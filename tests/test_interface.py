@@ -9,6 +9,8 @@ from tests.helpers import same
 PATH = ((0, 1, 0), (1, 0, 1), (0, 1, 0))
 PAIR = ((0, 1), (1, 0))
 TURN = ((1, 2, 0), (1, -1, 1))
+D4, E6 = ("D", 4), ("E", 6)
+ROWS = ((2, 2, 0), (2, 0, 2))
 # For each file the functions, and for each of these its parameters with one right value each.
 INTERFACE = {
     "tables": {
@@ -47,6 +49,16 @@ INTERFACE = {
         "row_for": {"table": PAIR, "root": (1, -1)}, "product_of": {"table": PAIR, "one": (1, -1), "other": (1, 2)},
         "parts_of_root": {"table": PAIR, "root": (2, 1)},
     },
+    "kinds": {
+        "kinds_of": {"table": PATH}, "is_kind": {"thing": D4}, "kind_table": {"kind": D4}, "many_roots": {"kind": D4},
+        "many_bases": {"kind": D4}, "root_rows": {"kind": E6}, "holds_kind": {"one": E6, "other": D4},
+    },
+    "lows": {"is_good": {"thing": PATH}, "judge_good": {"table": PATH}, "good_holds": {"table": PAIR, "thing": ("rows", ROWS)}},
+    "growing": {
+        "with_place": {"table": PAIR, "c": (0, -1)}, "places_let": {"table": PAIR}, "does_let": {"table": PAIR, "c": (0, -1)},
+        "judge_going": {"table": PATH}, "going_holds": {"table": PAIR, "thing": ("plain", ROWS)}, "does_go_on": {"table": PATH},
+    },
+    "bars": {"nine_bars": {}, "bar_number": {"web": PATH}, "first_bar": {"web": PATH}},
 }
 
 
@@ -71,16 +83,16 @@ class InterfaceTests(unittest.TestCase):
             told = function(*values.values())
             self.assertTrue(same(function(**values), told), name)
             self.assertTrue(same(function(**dict(list(values.items())[::-1])), told), name)
-            first, *more = values.items()
-            self.assertTrue(same(function(first[1], **dict(more)), told), name)
+            if values:
+                first, *more = values.items()
+                self.assertTrue(same(function(first[1], **dict(more)), told), name)
 
     def test_whether_functions_return_bools(self):
         for function, name, _, values in self.each():
-            if name.startswith("is_") or name.endswith(("_hold", "_holds")):
+            if name.startswith(("is_", "does_")) or name.endswith(("_hold", "_holds")) or name == "holds_kind":
                 self.assertIs(function(**values), True, name)
-                values = dict(values)
-                values["thing" if "thing" in values else "table"] = None if "thing" in values else ((0, 0), (0, 0))
-                self.assertIs(function(**values), False, name)
+                if "thing" in values:
+                    self.assertIs(function(**dict(values, thing=None)), False, name)
 
 
 if __name__ == "__main__":

@@ -21,6 +21,8 @@ METHODS = set(
     "splitlines startswith strip update upper values zfill bit_length title capitalize swapcase casefold center expandtabs "
     "removeprefix removesuffix rindex isascii isdecimal isnumeric istitle isidentifier isprintable translate add discard "
     "sort format".split())
+AT_ONCE = {"list", "tuple", "dict", "sorted", "sum", "any", "all", "enumerate", "zip", "min", "max", "reversed", "len",
+           "combinations", "permutations", "product"}
 LIBRARY = {"heapq", "math", "itertools", "collections"}
 BARRED = (ast.Global, ast.AsyncFunctionDef, ast.AsyncFor, ast.AsyncWith, ast.Await, ast.Div, ast.MatMult, ast.Import, ast.Set)
 
@@ -62,6 +64,34 @@ class LanguageTests(unittest.TestCase):
                 if isinstance(node, ast.Constant):
                     self.assertIn(node.value.__class__, (int, str, bytes, bool, type(None)), path)
                     self.assertFalse(isinstance(node.value, str) and "%" in node.value, (path, node.value))
+
+    def test_values_at_module_level(self):
+        for path in files():
+            for node in ast.parse(path.read_text()).body:
+                self.assertIsInstance(node, (ast.Expr, ast.ImportFrom, ast.FunctionDef, ast.ClassDef, ast.Assign), path)
+                if isinstance(node, ast.Assign):
+                    value = ast.literal_eval(node.value)
+                    inner = list(value.values()) if isinstance(value, dict) else list(value) if isinstance(value, (list, tuple)) else []
+                    while inner:
+                        item = inner.pop()
+                        self.assertNotIsInstance(item, (list, dict, set), (path, node.lineno))
+                        inner += list(item) if isinstance(item, tuple) else []
+
+    def test_iterated_at_once(self):
+        for path in files():
+            for node in ast.walk(ast.parse(path.read_text())):
+                if isinstance(node, ast.Call) and isinstance(node.func, ast.Name):
+                    for value in node.args:
+                        name = value.func.id if isinstance(value, ast.Call) and isinstance(value.func, ast.Name) else None
+                        if name in ("range", "zip", "enumerate", "reversed"):
+                            self.assertIn(node.func.id, AT_ONCE, (path, node.lineno))
+                self.assertNotIsInstance(node, (ast.GeneratorExp, ast.Lambda, ast.Global), path)
+
+    def test_exponents(self):
+        for path in files():
+            for node in ast.walk(ast.parse(path.read_text())):
+                if isinstance(node, ast.BinOp) and isinstance(node.op, ast.Pow):
+                    self.assertIsInstance(node.right, ast.Constant, (path, node.lineno))
 
     def test_imports(self):
         for path in files():

@@ -1,8 +1,8 @@
 """Product tables, the refusal of webs that are not good, and the roots with rows that tell them."""
 
-from withintwo.errors import BadWeb, TooLow
+from withintwo.errors import TooLow
+from withintwo.needs import need_signed_web
 from withintwo.squares import judge_low
-from withintwo.tables import is_signed_web
 from withintwo.writings import unit_row
 
 BOUND = (-2, 1)
@@ -10,8 +10,7 @@ BOUND = (-2, 1)
 
 def need_good(table):
     """Refuse a value that is no signed web, then one that is not good."""
-    if not is_signed_web(table):
-        raise BadWeb(table)
+    need_signed_web(table)
     word, told = judge_low(table, BOUND)
     if word == "low":
         raise TooLow(told)

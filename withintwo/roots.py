@@ -79,13 +79,8 @@ def product_of(table, one, other):
     return dotted(rows[one], other)
 
 
-def parts_of_root(table, root):
-    """How often each root of the base stands in the sum that makes a root."""
-    need_good(table)
-    rows = rows_of_roots(table)
-    need_root(rows, root)
-    uppers = upper_roots(rows)
-    base = base_among(uppers)
+def parts_among(uppers, base, root):
+    """How often each root of a base stands in the sum that makes a root, given all upper roots too."""
     known = {upper: True for upper in uppers}
     sign = 1 if root in known else -1
     left = tuple([sign * item for item in root])
@@ -97,3 +92,12 @@ def parts_of_root(table, root):
         left = row_less(left, base[at])
     parts[base.index(left)] += sign
     return tuple(parts)
+
+
+def parts_of_root(table, root):
+    """How often each root of the base stands in the sum that makes a root."""
+    need_good(table)
+    rows = rows_of_roots(table)
+    need_root(rows, root)
+    uppers = upper_roots(rows)
+    return parts_among(uppers, base_among(uppers), root)

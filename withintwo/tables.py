@@ -104,12 +104,17 @@ def is_joined(table):
     return len(parts_of(table)) == 1
 
 
+def table_within(table, lot):
+    """The table within a lot, neither of which is looked at again."""
+    return tuple([tuple([table[i][j] for j in lot]) for i in lot])
+
+
 def within(table, lot):
     """The table within a lot that is not empty."""
     need_table(table)
     if not is_lot_of(table, lot) or lot == ():
         raise BadLot(lot)
-    return tuple([tuple([table[i][j] for j in lot]) for i in lot])
+    return table_within(table, lot)
 
 
 def beside(one, other):

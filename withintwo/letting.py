@@ -1,0 +1,34 @@
+"""Which rows of entries a further place of a good signed web can have."""
+
+from math import lcm
+
+from withintwo.goodwebs import BOUND
+from withintwo.grids import dotted
+from withintwo.tables import square_of, weight_of
+from withintwo.values import kept_base
+from withintwo.writings import row_behind, steps_of
+
+
+def measure_of(table):
+    """What is needed of a good signed web to tell which places it lets: zero rows, crossing rows, their shares.
+
+    The product table weighs zero rows with 0. Crossing rows have the product 0 with one another, and
+    each row is a sum of fractions times rows of both. Behind the shares stands what their sum is
+    measured with.
+    """
+    steps = steps_of(table, BOUND)
+    crossing = [row_behind(steps[:at + 1]) for at in range(len(steps))]
+    weights = [weight_of(table, row) + 2 * square_of(row) for row in crossing]
+    common = 1
+    for weight in weights:
+        common = lcm(common, weight)
+    return (kept_base(table, -2), crossing, [common // weight for weight in weights], common)
+
+
+def is_let(measure, c):
+    """Whether a good signed web with a measure lets a tuple of entries."""
+    zeros, crossing, shares, common = measure
+    if any([dotted(row, c) != 0 for row in zeros]):
+        return False
+    # With the products c the nearest that the rows come to the new one weighs this sum: its square is 2.
+    return sum([share * dotted(row, c) ** 2 for row, share in zip(crossing, shares)]) <= 2 * common
