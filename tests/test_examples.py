@@ -81,10 +81,43 @@ True
 [True, False]
 """,
     """
+>>> from withintwo.linewebs import line_web, plain_drawing, point_rows, many_low, is_line_web
+>>> [line_web((3, ((0, 1), (0, 2)))), plain_drawing((3, ((0, 1), (0, 2)))), point_rows((3, ((0, 1), (0, 2))))]
+[((0, 1), (1, 0)), (3, ((0, 1), (1, 2))), ((2, 2, 0), (2, 0, 2))]
+>>> [many_low((4, ((0, 1), (0, 3), (1, 2), (2, 3)))), many_low((3, ((0, 1), (0, 2), (1, 2)))), is_line_web(((0, 0, 0, 1), (0, 0, 0, 1), (0, 0, 0, 1), (1, 1, 1, 0)))]
+[1, 0, False]
+>>> from withintwo.linewebs import tellings, lines_hold, line_comings
 >>> three = ((0, 1, 1), (1, 0, 1), (1, 1, 0))
+>>> [tellings(three), lines_hold(three, ('drawing', 4, ((0, 3), (1, 3), (2, 3)))), lines_hold(three, ('bar', (0, 1, 2)))]
+[((3, ((0, 1), (0, 2), (1, 2))), (4, ((0, 1), (1, 2), (1, 3)))), True, False]
+>>> line_comings(((0, 1), (1, 0)))
+((0, 0), (0, 1), (1, 0), (1, 1))
 >>> from withintwo.bars import bar_number, first_bar, nine_bars
 >>> [bar_number(((0, 1, 1, 1), (1, 0, 0, 0), (1, 0, 0, 0), (1, 0, 0, 0))), bar_number(three), first_bar(((0, 1, 1, 1, 0), (1, 0, 0, 0, 1), (1, 0, 0, 0, 0), (1, 0, 0, 0, 0), (0, 1, 0, 0, 0))), len(nine_bars())]
 [0, None, (0, 1, 2, 3), 9]
+""",
+    """
+>>> from withintwo.diagrams import diagram, ringed_row, cycle_number, part_names, parts_hold
+>>> [diagram(('D', 4)), ringed_row(('D+', 4)), cycle_number(('E', 7))]
+[((0, 1, 0, 0), (1, 0, 1, 1), (0, 1, 0, 0), (0, 1, 0, 0)), (1, 2, 1, 1, 1), 18]
+>>> [part_names(((0, 0), (0, 0))), parts_hold(((0, 1, 1), (1, 0, 0), (1, 0, 0)), ((('A', 3), (2, 0, 1)),)), parts_hold(((0, 1), (1, 0)), ((('A', 2), (0, 0)),))]
+[((('A', 1), (0,)), (('A', 1), (1,))), True, False]
+>>> from withintwo.kept import below_holds, high_comings, is_never_high, kept_holds, kept_rows
+>>> full = ((0, 1, 1, 1), (1, 0, 1, 1), (1, 1, 0, 1), (1, 1, 1, 0))
+>>> [is_never_high(full), kept_holds(full, ('high', (1, 1, 1, 1))), kept_holds(full, ('kept', (1, 1, 1, 1))), below_holds(full, ('ringed', ('A+', 2), (0, 1, 2)))]
+[False, True, False, True]
+>>> three = ((0, 1, 1), (1, 0, 1), (1, 1, 0))
+>>> [kept_rows(three), high_comings(three), high_comings(((0, 1), (1, 0)))]
+[((1, 1, 1),), ((0, 0, 0),), ((0, 0), (0, 1), (1, 0), (1, 1))]
+>>> from withintwo.kept import ring_sign, ring_ends
+>>> [ring_sign(((0, 1, -1), (1, 0, 1), (-1, 1, 0))), ring_ends(((0, 1, -1), (1, 0, 1), (-1, 1, 0))), ring_ends(three), ring_ends(((0, 1), (1, 0)))]
+[-1, (False, True), (True, False), None]
+""",
+    """
+>>> from withintwo.greatest import greatest, is_seat, is_seat_name
+>>> THREE = ((0, 1, 1), (1, 0, 1), (1, 1, 0))
+>>> [greatest(('C', 2, 1, -1)), is_seat_name(('C', 2, -1, 1)), len(greatest(('S', 16, 0))), is_seat(THREE, (('T', 3), (0, 2, 4), (1, 1, 1)))]
+[((1, 1, 1, 1), (1, 1, -1, -1), (1, -1, -1, 1), (1, -1, 1, -1)), False, 16, True]
 """,
 ]
 
@@ -119,7 +152,7 @@ class ExampleTests(unittest.TestCase):
                 self.assertIs(type(caught.exception), wanted)
                 value = next(iter(vars(wanted(ast.literal_eval(failure[2]))).items()))
                 self.assertTrue(same(getattr(caught.exception, value[0]), value[1]), line)
-        self.assertEqual(shown_ones, 20)
+        self.assertEqual(shown_ones, 30)
 
 
 if __name__ == "__main__":

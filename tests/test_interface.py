@@ -11,6 +11,8 @@ PAIR = ((0, 1), (1, 0))
 TURN = ((1, 2, 0), (1, -1, 1))
 D4, E6 = ("D", 4), ("E", 6)
 ROWS = ((2, 2, 0), (2, 0, 2))
+THREE = ((0, 1, 1), (1, 0, 1), (1, 1, 0))
+DRAWING = (3, ((0, 1), (0, 2)))
 # For each file the functions, and for each of these its parameters with one right value each.
 INTERFACE = {
     "tables": {
@@ -58,7 +60,25 @@ INTERFACE = {
         "with_place": {"table": PAIR, "c": (0, -1)}, "places_let": {"table": PAIR}, "does_let": {"table": PAIR, "c": (0, -1)},
         "judge_going": {"table": PATH}, "going_holds": {"table": PAIR, "thing": ("plain", ROWS)}, "does_go_on": {"table": PATH},
     },
+    "linewebs": {
+        "is_drawing": {"thing": DRAWING}, "line_web": {"drawing": DRAWING}, "plain_drawing": {"drawing": DRAWING},
+        "point_rows": {"drawing": DRAWING}, "many_low": {"drawing": DRAWING}, "is_line_web": {"web": PATH}, "judge_lines": {"web": PATH},
+        "lines_hold": {"web": PAIR, "thing": ("drawing", 3, ((0, 1), (0, 2)))}, "tellings": {"web": THREE}, "line_comings": {"web": PAIR},
+    },
     "bars": {"nine_bars": {}, "bar_number": {"web": PATH}, "first_bar": {"web": PATH}},
+    "diagrams": {
+        "is_diagram_name": {"thing": ("D+", 4)}, "diagram": {"name": ("D+", 4)}, "ringed_row": {"name": ("D+", 4)},
+        "cycle_number": {"name": E6}, "part_names": {"web": PATH}, "parts_hold": {"web": PAIR, "thing": ((("A", 2), (1, 0)),)},
+    },
+    "kept": {
+        "is_never_high": {"web": PATH}, "judge_kept": {"web": PATH}, "kept_holds": {"web": PATH, "thing": ("kept", (2, 3, 2))},
+        "is_below_two": {"web": PATH}, "judge_below": {"web": PATH}, "below_holds": {"web": THREE, "thing": ("ringed", ("A+", 2), (2, 0, 1))},
+        "kept_rows": {"web": THREE}, "high_comings": {"web": PAIR}, "ring_sign": {"table": THREE}, "ring_ends": {"table": THREE},
+    },
+    "greatest": {
+        "is_seat_name": {"thing": ("T", 3)}, "greatest": {"name": ("C", 2, 1, -1)},
+        "is_seat": {"table": THREE, "thing": (("T", 3), (0, 2, 4), (1, 1, 1))},
+    },
 }
 
 

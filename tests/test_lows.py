@@ -9,6 +9,7 @@ from tests.helpers import (Case, any_values, beside, bent, full_web, kind_table,
 from tests.test_roots import GOOD, GREAT, LOW, PATH, TWO, wrong_webs
 from withintwo.errors import BadWeb
 from withintwo.lows import good_holds, is_good, judge_good
+from withintwo.squares import judge_low
 
 STAR = star_web(3)
 SIX = star_web(5)
@@ -226,6 +227,10 @@ class HoldTests(Case):
         self.check(((0, -1), (-1, 0)), judge_good(TWO), False)
         self.check(beside(TWO, ONE), judge_good(TWO), False)
         self.check(TWO, judge_good(beside(TWO, ONE)), False)
+
+    def test_sums_of_squares_are_no_certificates(self):
+        for table in (ONE, TWO, PATH, STAR, star_web(4)):
+            self.check(table, judge_low(table, (-2, 1)), False)
 
     def test_any_value(self):
         for table in (ONE, TWO, PATH, STAR, full_web(4, -1)):

@@ -25,3 +25,13 @@ def are_unlike(items):
 def is_headed(thing, word, many):
     """Whether any value is a tuple of so many items, at least one, that begins with a word."""
     return isinstance(thing, tuple) and len(thing) == many and thing[0] == word
+
+
+def is_ranked(thing, ranks):
+    """Whether any value is a pair of a word and an integer within the bounds that a dict has for the word."""
+    if not isinstance(thing, tuple) or len(thing) != 2:
+        return False
+    word, rank = thing
+    if not isinstance(word, str) or word not in ranks or not is_integer(rank):
+        return False
+    return ranks[word][0] <= rank <= ranks[word][1]

@@ -2,7 +2,7 @@
 
 from math import factorial
 
-from withintwo.checks import is_integer
+from withintwo.checks import is_ranked
 from withintwo.errors import BadKind
 from withintwo.goodwebs import need_good, product_table, rows_of_roots
 from withintwo.grids import rank_of_rows
@@ -20,12 +20,7 @@ D_IN_E = {6: 5, 7: 6, 8: 8}
 
 def is_kind(thing):
     """Whether any value is a kind."""
-    if not isinstance(thing, tuple) or len(thing) != 2:
-        return False
-    letter, rank = thing
-    if not isinstance(letter, str) or letter not in RANKS or not is_integer(rank):
-        return False
-    return RANKS[letter][0] <= rank <= RANKS[letter][1]
+    return is_ranked(thing, dict(RANKS))
 
 
 def need_kind(thing):
@@ -110,7 +105,8 @@ def greatest_held(kind, letter):
         return rank
     if own == "E":
         return A_IN_E[rank] if letter == "A" else D_IN_E[rank]
-    return rank - 1 if own == "D" and letter == "A" else 0
+    # Of these two only D holds another letter.
+    return rank - 1 if letter == "A" else 0
 
 
 def holds_kind(one, other):
