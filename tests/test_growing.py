@@ -13,7 +13,7 @@ from tests.test_roots import (GOOD, GREAT, LOW, PATH, PETERSEN, RINGED_E6, RINGE
 from withintwo.errors import BadRow, BadWeb, NotJoined
 from withintwo.growing import does_go_on, does_let, going_holds, judge_going, places_let, with_place
 from withintwo.kinds import kinds_of
-from withintwo.lows import judge_good
+from withintwo.lows import is_good, judge_good
 
 ONE = ((0,),)
 STAR = star_web(3)
@@ -132,6 +132,7 @@ class LetTests(Case):
                     told = self.check(table)
                     for c in all_entries(many):
                         self.whether(c in told, does_let, table, c)
+                        self.assertEqual(c in told, is_good(with_place(table, c)))
 
     def test_more_places(self):
         rnd = seeded("more places")

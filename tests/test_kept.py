@@ -17,7 +17,7 @@ from withintwo.kept import (below_holds, high_comings, is_below_two, is_never_hi
                             ring_ends, ring_sign)
 from withintwo.lows import is_good
 from withintwo.turnings import judge_signs
-from withintwo.values import kept_base
+from withintwo.values import kept_base, many_values
 
 ONE, TWO, THREE, FOUR = zero_table(1), full_web(2), full_web(3), full_web(4)
 PATH = web(3, [(0, 1), (1, 2)])
@@ -235,6 +235,11 @@ class BelowTests(Case):
         self.check(full_web(5), ("ringed", ("D+", 4), (0, 4, 1, 2, 3)), True)
         self.check(star_web(4), ("ringed", ("D+", 4), (1, 0, 2, 3, 4)), True)
         self.check(star_web(4), ("ringed", ("D+", 4), (0, 1, 2, 3, 4)), False)
+        # With a place twice even two tied places would have the ties of some diagrams.
+        self.check(TWO, ("ringed", ("A+", 3), (0, 1, 0, 1)), False)
+        self.check(TWO, ("ringed", ("D+", 4), (1, 0, 1, 1, 1)), False)
+        self.check(star_web(3), ("ringed", ("D+", 4), (1, 0, 2, 3, 3)), False)
+        self.check(PATH, ("ringed", ("A+", 11), (0, 1, 2, 1) * 3), False)
         for name in RINGED:
             many = len(diagram_by_hand(name))
             places = tuple(range(many))
@@ -352,6 +357,7 @@ class RingTests(Case):
                     values = (helpers.inertia(table, Fraction(2)), helpers.inertia(table, Fraction(-2)))
                     self.assertEqual((values[0][2], values[1][0]), (0, 0))
                     self.same(self.told(ring_ends, table), (values[0][1] > 0, values[1][1] > 0))
+                    self.same(ring_ends(table), tuple(many_values(table, number)[1] > 0 for number in ((2, 1), (-2, 1))))
 
     def is_ring(self, table):
         """The words of [6.7]: a ring through all places that has all ties."""

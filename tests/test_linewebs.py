@@ -13,6 +13,7 @@ from withintwo.errors import BadTies, BadWeb, NotLine
 from withintwo.linewebs import (is_drawing, is_line_web, judge_lines, line_comings, line_web, lines_hold, many_low, plain_drawing,
                                 point_rows, tellings)
 from withintwo.lows import good_holds
+from withintwo.values import kept_base
 
 ONE, TWO = ((0,),), ((0, 1), (1, 0))
 THREE = full_web(3)
@@ -188,6 +189,7 @@ class DrawingTests(Case):
             table = web(many, ties) if many <= 12 else None
             told = self.told(many_low, drawing)
             self.same(told, helpers.inertia(line_web(drawing), Fraction(-2))[1])
+            self.same(told, len(kept_base(line_web(drawing), -2)))
             if table is not None:
                 sided = 0
                 for part in helpers.parts_of(table):

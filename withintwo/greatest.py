@@ -40,7 +40,7 @@ def lay(rows, one, other, entry):
 
 def column_rows(many, steps):
     """The rows of so many columns, the first so many of which have one that follows."""
-    rows = [[0] * (2 * many) for _ in range(2 * many)]
+    rows = [[0] * (2 * many) for place in range(2 * many)]
     for step in range(steps):
         behind = 2 * ((step + 1) % many)
         for other in (behind, behind + 1):
@@ -78,7 +78,7 @@ def even_sign(number):
 def cube_rows(turns, loop):
     """The rows of the cube with signs of so many turns, with loops of the size of loop."""
     many = 1 << turns
-    rows = [[0] * many for _ in range(many)]
+    rows = [[0] * many for place in range(many)]
     for place in range(many):
         lay(rows, place, place, loop * even_sign(place))
         for digit in range(turns):

@@ -3,7 +3,7 @@
 
 def tied_table(many, ties, entry):
     """The table of so many places that has an entry at some pairs of places, and 0 elsewhere."""
-    rows = [[0] * many for _ in range(many)]
+    rows = [[0] * many for place in range(many)]
     for one, other in ties:
         rows[one][other] = entry
         rows[other][one] = entry
