@@ -13,6 +13,11 @@ def applied(rows, row):
     return [dotted(line, row) for line in rows]
 
 
+def weighed(table, row):
+    """What a table, of however many places, weighs a row."""
+    return dotted(row, applied(table, row))
+
+
 def times(rows, table):
     """Some rows times a symmetric table, whose columns are its rows."""
     return [applied(table, row) for row in rows]
