@@ -118,6 +118,34 @@ True
 >>> THREE = ((0, 1, 1), (1, 0, 1), (1, 1, 0))
 >>> [greatest(('C', 2, 1, -1)), is_seat_name(('C', 2, -1, 1)), len(greatest(('S', 16, 0))), is_seat(THREE, (('T', 3), (0, 2, 4), (1, 1, 1)))]
 [((1, 1, 1, 1), (1, 1, -1, -1), (1, -1, -1, 1), (1, -1, 1, -1)), False, 16, True]
+>>> from withintwo.between import between_holds, does_reach_on, holders, is_between, judge_between, places_between
+>>> FOUR = ((0, 1, 1, 1), (1, 0, 1, 1), (1, 1, 0, 1), (1, 1, 1, 0))
+>>> [is_between(THREE), is_between(FOUR), between_holds(FOUR, ('beyond', (1, 1, 1, 1))), holders(THREE), does_reach_on(THREE), judge_between(((0,),))[0]]
+[True, False, True, (('S', 7, 1), ('T', 3)), False, 'placed']
+>>> [does_reach_on(((0, 1), (1, 0))), places_between(((1,),))]
+[True, ((-1, -1), (-1, 0), (-1, 1), (0, -1), (0, 0), (0, 1), (1, -1), (1, 0), (1, 1))]
+>>> from withintwo.rounds import ring_polynomial, round_polynomial, rounds_hold, rounds_of
+>>> [ring_polynomial(6), round_polynomial(((0, 1), (1, 0))), rounds_of(((0, 1), (1, 0))), rounds_of(((0,),)), rounds_of(((1,),)), rounds_of(THREE), rounds_hold(THREE, (3, 1, 3, 1))]
+[(1, -1, 1), (1, 0, 1, 0, 1), (3, 6), (4,), (6,), (1, 1, 3, 3), True]
+>>> ring_polynomial(0)
+raises BadNumber(0)
+""",
+    """
+>>> from withintwo.angles import is_angles, least_dimension, lines_hold, most_lines, sum_bound
+>>> cube = ((0, 1, 1, 1), (1, 0, -1, -1), (1, -1, 0, -1), (1, -1, -1, 0))
+>>> [is_angles(cube), least_dimension(cube, 3), least_dimension(cube, 2), lines_hold(cube, 2, ('low', (1, -1, -1, -1))), sum_bound(3, 3), most_lines(3), most_lines(7), most_lines(16)]
+[True, 3, None, True, (4, 1), 4, 28, 30]
+>>> from withintwo.triples import family_of, lot_between, regular_holds, turned_lot, web_behind
+>>> cube = ((0, 1, 1, 1), (1, 0, -1, -1), (1, -1, 0, -1), (1, -1, -1, 0))
+>>> other = turned_lot(cube, (0,))
+>>> [family_of(cube), other[0], lot_between(cube, other), regular_holds(cube, ('regular', 2)), web_behind(other, 0)]
+[((0, 1, 2), (0, 1, 3), (0, 2, 3), (1, 2, 3)), (0, -1, -1, -1), (1, 2, 3), True, ((0, 1, 1), (1, 0, 1), (1, 1, 0))]
+>>> from withintwo.triples import family_holds, judge_family
+>>> [judge_family(4, ((0, 1, 2),)), family_holds(3, ((0, 1, 2),), ('table', ((0, -1, 1), (-1, 0, 1), (1, 1, 0)))), family_holds(3, (), ('table', ((0, -1, -1), (-1, 0, 1), (-1, 1, 0))))]
+[('four', (0, 1, 2, 3)), True, True]
+>>> from withintwo.triples import judge_family
+>>> judge_family(3, ((0, 1, 3),))
+raises BadTriples(((0, 1, 3),))
 """,
 ]
 
@@ -152,7 +180,7 @@ class ExampleTests(unittest.TestCase):
                 self.assertIs(type(caught.exception), wanted)
                 value = next(iter(vars(wanted(ast.literal_eval(failure[2]))).items()))
                 self.assertTrue(same(getattr(caught.exception, value[0]), value[1]), line)
-        self.assertEqual(shown_ones, 30)
+        self.assertEqual(shown_ones, 38)
 
 
 if __name__ == "__main__":

@@ -13,6 +13,8 @@ D4, E6 = ("D", 4), ("E", 6)
 ROWS = ((2, 2, 0), (2, 0, 2))
 THREE = ((0, 1, 1), (1, 0, 1), (1, 1, 0))
 DRAWING = (3, ((0, 1), (0, 2)))
+CUBE = ((0, 1, 1, 1), (1, 0, -1, -1), (1, -1, 0, -1), (1, -1, -1, 0))
+TURNED = ((0, -1, 1, 1), (-1, 0, 1, 1), (1, 1, 0, -1), (1, 1, -1, 0))
 # For each file the functions, and for each of these its parameters with one right value each.
 INTERFACE = {
     "tables": {
@@ -78,6 +80,26 @@ INTERFACE = {
     "greatest": {
         "is_seat_name": {"thing": ("T", 3)}, "greatest": {"name": ("C", 2, 1, -1)},
         "is_seat": {"table": THREE, "thing": (("T", 3), (0, 2, 4), (1, 1, 1))},
+    },
+    "between": {
+        "is_between": {"table": PATH}, "judge_between": {"table": PATH}, "holders": {"table": PATH}, "does_reach_on": {"table": PATH},
+        "between_holds": {"table": THREE, "thing": ("placed", ((("T", 3), (0, 2, 4), (1, 1, 1)),))},
+        "places_between": {"table": PAIR}, "with_looped_place": {"table": PAIR, "c": (0, -1, 1)},
+    },
+    "rounds": {
+        "ring_polynomial": {"number": 12}, "round_polynomial": {"table": PATH}, "rounds_of": {"table": PATH},
+        "rounds_hold": {"table": THREE, "thing": (3, 1, 3, 1)},
+    },
+    "angles": {
+        "is_angles": {"thing": CUBE}, "judge_lines": {"table": CUBE, "a": 3}, "least_dimension": {"table": CUBE, "a": 3},
+        "lines_hold": {"table": CUBE, "a": 2, "thing": ("low", (1, -1, -1, -1))}, "sum_bound": {"d": 7, "a": 3}, "most_lines": {"d": 16},
+        "most_table": {"d": 4},
+    },
+    "triples": {
+        "turned_lot": {"table": CUBE, "lot": (0, 2)}, "family_of": {"table": CUBE}, "lot_between": {"one": CUBE, "other": TURNED},
+        "led_to": {"table": TURNED, "place": 1}, "web_behind": {"table": TURNED, "place": 1}, "judge_regular": {"table": CUBE},
+        "regular_holds": {"table": CUBE, "thing": ("regular", 2)}, "judge_family": {"n": 4, "threes": ((0, 1, 2),)},
+        "family_holds": {"n": 4, "threes": ((0, 1, 2),), "thing": ("four", (0, 1, 2, 3))},
     },
 }
 

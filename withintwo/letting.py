@@ -12,9 +12,9 @@ from withintwo.writings import row_behind, steps_of
 def measure_of(table):
     """What is needed of a table never below -2 to tell which places it lets: zero rows, crossing rows, their shares.
 
-    The table, with 2 added to each loop, weighs zero rows with 0. Crossing rows have the product 0 with one another, and
-    each row is a sum of fractions times rows of both. Behind the shares stands what their sum is
-    measured with.
+    The table, with 2 added to each loop, weighs zero rows with 0. Crossing rows have the product 0 with
+    one another, and each row is a sum of fractions times rows of both. Behind the shares stands what
+    their sum is measured with.
     """
     steps = steps_of(table, BOUND)
     crossing = [row_behind(steps[:at + 1]) for at in range(len(steps))]
