@@ -6,6 +6,7 @@ from withintwo.grids import dotted, rank_of_rows, weighed
 from withintwo.ratios import lowest
 from withintwo.squares import judged
 from withintwo.tables import is_row_of
+from withintwo.tied import number_pairs
 from withintwo.writings import are_terms, do_write
 
 MOST_LINES = 28
@@ -76,18 +77,13 @@ def most_lines(d):
     return max(MANY_BY_THREE[-1], 2 * (d - 1))
 
 
-def number_pairs(many):
-    """The ascending list of the pairs of so many numbers."""
-    return [(one, other) for one in range(many) for other in range(one + 1, many)]
-
-
 def pairs_for(d):
     """The list of pairs of numbers from 0 to 7 that stand for most lines in so many dimensions, 15 at most."""
     if d < 4:
         return [(0, 1), (2, 3), (4, 5), (6, 7)][:MANY_BY_THREE[d]]
     if d < 6:
         return number_pairs(d)
-    # All six numbers' pairs and the pair of the other two have rows, as below, with equal last items.
+    # The pairs of six numbers, and that of the other two, are those whose rows, as below, have equal last items.
     return number_pairs(6) + [(6, 7)] if d == 6 else number_pairs(8)
 
 

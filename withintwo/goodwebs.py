@@ -22,6 +22,11 @@ def product_table(table):
     return tuple([tuple([2 if i == j else table[i][j] for j in places]) for i in places])
 
 
+def mirror_moved(products, root, place):
+    """What the mirror of a place makes of a root, given the product table."""
+    return tuple([item - root[place] * less for item, less in zip(root, products[place])])
+
+
 def rows_of_roots(table):
     """A dict from each root of a good signed web to a row that tells it."""
     products = product_table(table)
@@ -34,10 +39,9 @@ def rows_of_roots(table):
         root = queue[at]
         row = rows[root]
         for place in places:
-            amount = root[place]
-            moved = tuple([item - amount * less for item, less in zip(root, products[place])])
+            moved = mirror_moved(products, root, place)
             if moved not in rows:
-                rows[moved] = row[:place] + (row[place] - amount,) + row[place + 1:]
+                rows[moved] = row[:place] + (row[place] - root[place],) + row[place + 1:]
                 queue.append(moved)
         at += 1
     return rows

@@ -15,6 +15,11 @@ def way_ties(many):
     return [(place, place + 1) for place in range(many - 1)]
 
 
+def number_pairs(many):
+    """The ascending list of the pairs of so many numbers, the lesser one first."""
+    return [(one, other) for one in range(many) for other in range(one + 1, many)]
+
+
 def rows_over(items, many):
     """The list of all tuples of so many of some ascending items, ascending."""
     rows = [()]
