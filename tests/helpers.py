@@ -18,7 +18,10 @@ def nested(depth):
 
 def any_values():
     """Values of all the kinds that "any value" allows."""
+    from withintwo.workshops import Workshop
+    shop = Workshop(((0, 1), (1, 0)))
     return [
+        shop, (shop,), [shop], ((shop,),), (0, shop), (shop, shop), ("low", shop), ("rows", (shop,)), {"low": shop}, ("come", shop),
         None, True, False, 0, 1, -1, 2, 7, -(10 ** 99), 10 ** 99, "", "a", "0", "table 1\n0", " ~\n" * 600, "x" * 2000,
         (), [], {}, (0,), (1,), [0], [[0]], ((),), ((0,),), ([0],), [(0,)], ((True,),), ((False,),), (("0",),),
         ((None,),), (None,), (True,), (False,), ("a",), ({},), ([],), {0: 0}, {"a": (1, [2])}, (0, 0), (0, 1), (1, 0),

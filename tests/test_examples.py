@@ -1,4 +1,4 @@
-"""The examples of the document that use what has landed, as they are written there."""
+"""The examples of the document, as they are written there."""
 
 import ast
 import re
@@ -147,6 +147,48 @@ raises BadNumber(0)
 >>> judge_family(3, ((0, 1, 3),))
 raises BadTriples(((0, 1, 3),))
 """,
+    """
+>>> from withintwo.evenwebs import even_web, judge_even, even_values, even_name
+>>> [judge_even(even_web(('petersen',))), even_values(even_web(('petersen',))), even_values(even_web(('ring',)))]
+[('counts', 3, 0, 1), ((-2, 4), (1, 5), (3, 1)), None]
+>>> [even_values(even_web(('lots', 3, 2))), even_name(((0, 1, 0, 1), (1, 0, 1, 0), (0, 1, 0, 1), (1, 0, 1, 0))), judge_even(((0, 0), (0, 0)))]
+[((-1, 3), (1, 3)), ('twos', 2), ('counts', 0, None, 0)]
+>>> from withintwo.evenwebs import even_holds, name_holds, opposite_web, around
+>>> way = ((0, 1, 0), (1, 0, 1), (0, 1, 0))
+>>> [even_holds(way, ('places', 0, 1)), even_name(way), name_holds(even_web(('twos', 2)), ('named', ('twos', 2), (1, 0, 2, 3)))]
+[True, None, True]
+>>> [judge_even(opposite_web(even_web(('clebsch',)))), around(even_web(('square', 3)), 0), around(((0,),), 0)]
+[('counts', 5, 0, 2), ((0, 1, 0, 0), (1, 0, 0, 0), (0, 0, 0, 1), (0, 0, 1, 0)), ()]
+""",
+    """
+>>> from withintwo.mirrors import row_to_base_holds, exchanged, mirrored, mirrored_by, shortest_mirrors
+>>> pair = ((0, 1), (1, 0))
+>>> [mirrored(pair, (2, 1), 1), mirrored_by(pair, (2, 1), (1, 0)), shortest_mirrors(pair, (2, 1), (1, 2)), exchanged(pair, 0, 1), row_to_base_holds(pair, ((0, 1),)), row_to_base_holds(pair, ())]
+[(1, -1), (-1, -2), (0, 1, 0), ((0, -1), (-1, 0)), True, False]
+>>> from withintwo.heights import after_tour, greatest_root, height, heights, is_plain_base, tour_lengths
+>>> path = ((0, -1, 0), (-1, 0, -1), (0, -1, 0))
+>>> [is_plain_base(path), heights(path), greatest_root(path), height(path, (2, -1, 0)), after_tour(path, (2, -1, 0)), tour_lengths(path)]
+[True, (3, 2, 1), (1, 0, 1), 1, (-1, 0, -1), (4, 4, 4)]
+>>> from withintwo.mirrors import exchanged
+>>> exchanged(((0, 1), (1, 0)), 0, 0)
+raises BadPlace(0)
+""",
+    """
+>>> from withintwo.workshops import Workshop, read_workshop
+>>> shop = Workshop(((0, 1), (1, 0)))
+>>> shop.deal((('promise', ('between',)), ('come', (1, 0))))
+>>> [shop.web(), shop.promises(), shop.deeds(), str(shop), shop.would((('come', (1, 1, 1)),)), shop.would((('come', (0, 1, 0)),))]
+[((0, 1, 1), (1, 0, 0), (1, 0, 0)), (('between',),), 1, 'workshop\\ntable 3\\n0\\n1 0\\n1 0 0\\nbetween', False, True]
+>>> shop.change(('sign', 0))
+>>> shop.undo()
+>>> [shop.web(), shop.deeds(), shop.judged(('low',)), shop.judged(('rank', 1)), shop.judged(('line',)), shop == read_workshop(str(shop))]
+[((0, 1, 1), (1, 0, 0), (1, 0, 0)), 1, ('holds',), ('rank', 3), ('holds',), True]
+>>> shop.change(('swap', 0, 3))
+raises BadPlace(3)
+>>> from withintwo.workshops import read_workshop
+>>> read_workshop('workshop\\ntable 2\\n0\\n2 0')
+raises BadText(4)
+""",
 ]
 
 
@@ -180,7 +222,7 @@ class ExampleTests(unittest.TestCase):
                 self.assertIs(type(caught.exception), wanted)
                 value = next(iter(vars(wanted(ast.literal_eval(failure[2]))).items()))
                 self.assertTrue(same(getattr(caught.exception, value[0]), value[1]), line)
-        self.assertEqual(shown_ones, 38)
+        self.assertEqual(shown_ones, 49)
 
 
 if __name__ == "__main__":

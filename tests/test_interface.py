@@ -5,6 +5,7 @@ import inspect
 import unittest
 
 from tests.helpers import same
+from withintwo.workshops import Workshop
 
 PATH = ((0, 1, 0), (1, 0, 1), (0, 1, 0))
 PAIR = ((0, 1), (1, 0))
@@ -14,6 +15,7 @@ ROWS = ((2, 2, 0), (2, 0, 2))
 THREE = ((0, 1, 1), (1, 0, 1), (1, 1, 0))
 DRAWING = (3, ((0, 1), (0, 2)))
 CUBE = ((0, 1, 1, 1), (1, 0, -1, -1), (1, -1, 0, -1), (1, -1, -1, 0))
+PLAIN = ((0, -1, 0), (-1, 0, -1), (0, -1, 0))
 TURNED = ((0, -1, 1, 1), (-1, 0, 1, 1), (1, 1, 0, -1), (1, 1, -1, 0))
 # For each file the functions, and for each of these its parameters with one right value each.
 INTERFACE = {
@@ -101,6 +103,27 @@ INTERFACE = {
         "regular_holds": {"table": CUBE, "thing": ("regular", 2)}, "judge_family": {"n": 4, "threes": ((0, 1, 2),)},
         "family_holds": {"n": 4, "threes": ((0, 1, 2),), "thing": ("four", (0, 1, 2, 3))},
     },
+    "evenwebs": {
+        "is_even_name": {"thing": ("twos", 2)}, "even_web": {"name": ("twos", 2)}, "is_even": {"web": THREE}, "judge_even": {"web": PATH},
+        "even_holds": {"web": PATH, "thing": ("places", 0, 1)}, "even_values": {"web": THREE}, "opposite_web": {"web": PATH},
+        "judge_name": {"web": THREE}, "name_holds": {"web": THREE, "thing": ("named", ("lots", 1, 3), (2, 0, 1))}, "even_name": {"web": THREE},
+        "around": {"web": PATH, "place": 1},
+    },
+    "mirrors": {
+        "mirrored": {"table": PAIR, "root": (2, 1), "place": 1}, "mirrored_by": {"table": PAIR, "root": (2, 1), "places": (1, 0)},
+        "shortest_mirrors": {"table": PAIR, "one": (2, 1), "other": (1, 2)}, "exchanged": {"table": PAIR, "place": 0, "other": 1},
+        "row_to_base": {"table": PATH}, "row_to_base_holds": {"table": PAIR, "thing": ((0, 1),)},
+    },
+    "heights": {
+        "is_plain_base": {"thing": PLAIN}, "height": {"table": PLAIN, "root": (2, -1, 0)}, "heights": {"table": PLAIN},
+        "greatest_root": {"table": PLAIN}, "after_tour": {"table": PLAIN, "root": (2, -1, 0)}, "tour_lengths": {"table": PLAIN},
+    },
+    "workshops": {"read_workshop": {"text": "workshop\ntable 1\n0\nlow"}},
+}
+# The methods of a workshop, likewise.
+METHODS = {
+    "web": {}, "promises": {}, "deeds": {}, "change": {"change": ("sign", 0)}, "deal": {"changes": (("sign", 0),)}, "would": {"changes": (("sign", 0),)},
+    "judged": {"promise": ("rank", 1)}, "against_holds": {"promise": ("rank", 1), "thing": ("rank", 3)}, "undo": {}, "redo": {}, "copied": {},
 }
 
 
@@ -128,6 +151,27 @@ class InterfaceTests(unittest.TestCase):
             if values:
                 first, *more = values.items()
                 self.assertTrue(same(function(first[1], **dict(more)), told), name)
+
+    def test_methods(self):
+        self.assertEqual(list(inspect.signature(Workshop).parameters)[:1], ["web"])
+        for name, values in METHODS.items():
+            method = vars(Workshop)[name]
+            self.assertTrue(inspect.isfunction(method), name)
+            self.assertEqual(list(inspect.signature(method).parameters)[1:len(values) + 1], list(values), name)
+            told = []
+            for by_name in (True, False):
+                shop = Workshop(web=PATH)
+                shop.change(("sign", 1))
+                shop.deal(())
+                if name == "redo":
+                    shop.undo()
+                told.append(getattr(shop, name)(**values) if by_name else getattr(shop, name)(*values.values()))
+                told.append(str(shop))
+                if name in ("change", "deal", "undo", "redo"):
+                    self.assertIsNone(told[-2], name)
+                if name in ("would", "against_holds"):
+                    self.assertIs(told[-2], True, name)
+            self.assertTrue(same(told[:2], told[2:]), name)
 
     def test_whether_functions_return_bools(self):
         for function, name, _, values in self.each():

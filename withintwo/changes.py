@@ -68,8 +68,10 @@ def tie(web, one, other, entry):
     need_two_places(web, one, other)
     if not is_integer(entry) or not -1 <= entry <= 1:
         raise BadNumber(entry)
-    places = range(len(web))
-    return tuple([tuple([entry if (i, j) in ((one, other), (other, one)) else web[i][j] for j in places]) for i in places])
+    rows = [list(row) for row in web]
+    rows[one][other] = entry
+    rows[other][one] = entry
+    return tuple([tuple(row) for row in rows])
 
 
 def web_changed(web, change):
