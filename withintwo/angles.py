@@ -43,9 +43,7 @@ def are_line_terms(table, a, thing):
     """Whether any value is a tuple of terms with independent rows and shares above 0 that write a table at -a."""
     if not are_terms(table, thing) or len(thing) > len(table) or not all([term[0][0] > 0 for term in thing]):
         return False
-    if rank_of_rows([term[1] for term in thing], len(table)) < len(thing):
-        return False
-    return do_write(table, (-a, 1), thing)
+    return do_write(table, (-a, 1), thing) and rank_of_rows([term[1] for term in thing], len(table)) == len(thing)
 
 
 def lines_hold(table, a, thing):

@@ -15,7 +15,6 @@ MOST_EVEN = 16
 # The least and the greatest number behind a word that stands before just one.
 NUMBERS = {"twos": (2, 8), "triangle": (5, 6), "square": (3, 4)}
 SINGLE_WORDS = ("ring", "petersen", "shrikhande", "clebsch")
-SINGLE_NAMES = (("ring",), ("triangle", 5), ("triangle", 6), ("square", 3), ("square", 4), ("petersen",), ("shrikhande",), ("clebsch",))
 STEPS = ((0, 1), (0, 3), (1, 0), (3, 0), (1, 1), (3, 3))
 
 
@@ -218,7 +217,9 @@ def opposite_web(web):
 def names_with(many):
     """The list of the even names whose webs have so many places."""
     names = [("lots", lots, many // lots) for lots in range(1, many + 1) if many % lots == 0]
-    names = names + [("twos", twos) for twos in range(2, 9)] + list(SINGLE_NAMES)
+    for word in NUMBERS:
+        names = names + [(word, number) for number in range(NUMBERS[word][0], NUMBERS[word][1] + 1)]
+    names = names + [(word,) for word in SINGLE_WORDS]
     return [name for name in names if many_places(name) == many]
 
 

@@ -67,7 +67,7 @@ def names_on(many):
 def seat_of(table):
     """Any seat for a joined looped web that is between."""
     many = len(table)
-    # If a column or an end is free, a table in names_on holds the web; else there are at most as many columns as places.
+    # If a column or an end is free, one of names_on holds the web; else there are no more columns than places.
     for name in names_on(many) + t_names(many) + c_names(2, many) + s_names():
         seat = seat_in(table, name)
         if seat is not None:

@@ -4,6 +4,7 @@ from withintwo.angles import is_angles, need_angles
 from withintwo.checks import are_integers, is_headed, is_integer
 from withintwo.errors import BadLot, BadPlace, BadTable, BadTriples
 from withintwo.tables import is_lot_of, is_place_of
+from withintwo.tied import number_pairs
 
 
 def with_turned(table, lot):
@@ -91,10 +92,9 @@ def judge_regular(table):
     """Any certificate that an angle table of two places or more is, or is not, regular."""
     need_two_places(table)
     first = many_threes(table, (0, 1))
-    for j in range(len(table)):
-        for i in range(j):
-            if many_threes(table, (i, j)) != first:
-                return ("pairs", (0, 1), (i, j))
+    for pair in number_pairs(len(table)):
+        if many_threes(table, pair) != first:
+            return ("pairs", (0, 1), pair)
     return ("regular", first)
 
 
@@ -107,8 +107,8 @@ def regular_holds(table, thing):
     """Whether any value is a certificate that an angle table is, or is not, regular."""
     need_two_places(table)
     if is_headed(thing, "regular", 2):
-        many = len(table)
-        return is_integer(thing[1]) and all([many_threes(table, (i, j)) == thing[1] for j in range(many) for i in range(j)])
+        pairs = number_pairs(len(table))
+        return is_integer(thing[1]) and all([many_threes(table, pair) == thing[1] for pair in pairs])
     if not is_headed(thing, "pairs", 3) or not is_pair_of(table, thing[1]) or not is_pair_of(table, thing[2]):
         return False
     return many_threes(table, thing[1]) != many_threes(table, thing[2])
