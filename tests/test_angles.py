@@ -8,6 +8,7 @@ from tests import helpers
 from tests.helpers import Case, any_values, bent, full_web, random_signed, seeded, symmetric, zero_table
 from withintwo.angles import is_angles, judge_lines, least_dimension, lines_hold, most_lines, most_table, sum_bound
 from withintwo.errors import BadTable
+from withintwo.squares import written
 
 CUBE = ((0, 1, 1, 1), (1, 0, -1, -1), (1, -1, 0, -1), (1, -1, -1, 0))
 PAIRS = list(itertools.combinations(range(8), 2))
@@ -226,6 +227,15 @@ class HoldTests(Case):
                     self.check(table, a, ("low", tuple(-item for item in told[1])), True)
                     self.check(table, a, ("lines", told[1]), False)
                     self.check(table, a, ("low", told[1][1:]), False)
+
+    def test_written_with_shares_below_0(self):
+        # Independent rows write a table that is too low only with shares below 0.
+        for table in [table for table in TABLES if len(table) <= 12]:
+            for a in range(2, 10):
+                terms = written(table, (-a, 1))
+                below = any(share[0] < 0 for share, _ in terms)
+                self.assertEqual(below, judge_lines(table, a)[0] == "low")
+                self.check(table, a, ("lines", terms), not below)
 
     def test_low_rows(self):
         for a in range(2, 10):

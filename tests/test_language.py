@@ -87,6 +87,23 @@ class LanguageTests(unittest.TestCase):
                             self.assertIn(node.func.id, AT_ONCE, (path, node.lineno))
                 self.assertNotIsInstance(node, (ast.GeneratorExp, ast.Lambda, ast.Global), path)
 
+    def test_classes_and_errors(self):
+        for path in files():
+            for node in ast.walk(ast.parse(path.read_text())):
+                if isinstance(node, ast.ClassDef):
+                    self.assertTrue(all(isinstance(part, (ast.FunctionDef, ast.Expr)) for part in node.body), (path, node.name))
+                    for part in node.body:
+                        if isinstance(part, ast.FunctionDef):
+                            self.assertEqual(part.decorator_list, [])
+                            if part.name.startswith("__"):
+                                self.assertIn(part.name, ("__init__", "__eq__", "__str__"))
+                if isinstance(node, ast.Raise):
+                    # An error is created where it is raised.
+                    self.assertTrue(isinstance(node.exc, ast.Call) and isinstance(node.exc.func, ast.Name), (path, node.lineno))
+                    self.assertTrue(all(not isinstance(value, ast.Starred) for value in node.exc.args))
+                if isinstance(node, ast.ExceptHandler):
+                    self.assertIn(ast.unparse(node.type), ("TableError", "BadChange"), (path, node.lineno))
+
     def test_exponents(self):
         for path in files():
             for node in ast.walk(ast.parse(path.read_text())):

@@ -219,6 +219,12 @@ class FamilyTests(Case):
                 for lot in itertools.combinations(range(many), 4):
                     self.whether(within_lot(told[1:], lot) % 2 == 1, family_holds, many, told[1:], ("four", lot))
                 self.whether(False, family_holds, many, told[1:], ("table", table))
+        # Tables of other numbers of places can have the same family.
+        for many, other in itertools.product(range(1, 6), repeat=2):
+            self.whether(many == other, family_holds, many, (), ("table", full_web(other)))
+            table = turned(full_web(other), (0, 2))
+            self.whether(many == other, family_holds, many, (), ("table", table))
+        self.whether(False, family_holds, 5, ((0, 1, 2), (0, 1, 3)), ("table", symmetric(4, lambda i, j: int(i != j) * (-1 if i == 1 else 1))))
         one = ((0, 1, 2),)
         for lot in ((0, 1, 2, 3), (3, 2, 1, 0), (0, 1, 3, 2), [0, 1, 2, 3], (0, 1, 2), (0, 1, 2, 2), (0, 1, 2, 3, 4), (0, 1, 2, 4), (-1, 0, 1, 2),
                     (False, True, 2, 3), (0, 1, 2, "3"), (1, 2, 3, 4), None, ()):

@@ -360,6 +360,13 @@ class PromiseTests(ShopCase):
             self.assertIs(shop.against_holds(("plain",), ("six", lot, wrong)), against_right(table, ("plain",), ("six", lot, wrong)))
         self.assertIs(shop.against_holds(("low",), ("six", lot, rows)), False)
         # A web with a part that is below -2 has no certificates but rows.
+        for r in range(1, 13):
+            self.assertIs(Workshop(full_web(4, -1)).against_holds(("rank", 1), ("rank", r)), False)
+            self.assertIs(Workshop(star_web(5)).against_holds(("rank", 1), ("rank", r)), False)
+        # The lot is a part, and of integers.
+        self.assertIs(Workshop(RINGED_E6).against_holds(("plain",), ("six", (0, 1, 2, 3, 4, 5), rows)), False)
+        self.assertIs(Workshop(E6).against_holds(("plain",), ("six", (0, 1, 2, 3, 4, 5), rows)), True)
+        self.assertIs(Workshop(E6).against_holds(("plain",), ("six", (False, True, 2, 3, 4, 5), rows)), False)
         low = Workshop(beside(E6, full_web(4, -1)))
         self.assertIs(low.against_holds(("plain",), ("six", (0, 1, 2, 3, 4, 5), rows)), False)
         self.assertIs(low.against_holds(("rank", 5), ("rank", 6)), False)
@@ -372,6 +379,11 @@ class PromiseTests(ShopCase):
         for thing, wanted in ((("minus", 4, 5), True), (("minus", 5, 4), False), (("minus", 0, 1), False), (("bar", (0, 1, 2, 3)), False),
                               (("minus", 4, 6), False), (("minus", -2, -1), False), (("minus", 4), False), (("minus", (4, 5)), False)):
             self.assertIs(shop.against_holds(("line",), thing), wanted)
+        for promise in PROMISES[:5]:
+            self.assertIs(Workshop(TWO).against_holds(promise, ("drawing", 3, ((0, 1), (0, 2)))), False)
+            self.assertIs(Workshop(TWO).against_holds(promise, ("rows", ((2, 2, 0), (2, 0, 2)))), False)
+            self.assertIs(Workshop(TWO).against_holds(promise, ("placed", ((("T", 3), (0, 2), (1, 1)),))), False)
+            self.assertIs(Workshop(TWO).against_holds(promise, ("squares", ())), False)
         shop = Workshop(beside(star_web(3), star_web(3)))
         for lot in itertools.combinations(range(8), 4):
             self.assertIs(shop.against_holds(("line",), ("bar", lot)), lot in ((0, 1, 2, 3), (4, 5, 6, 7)))
@@ -402,7 +414,7 @@ class ChangeTests(ShopCase):
             some = [("come", (0,) * many), ("come", (1,) * many), ("come", tuple(rnd.choice((-1, 0, 1)) for _ in range(many))), ("come", (0,) * (many + 1)),
                     ("come", (2,) * many), ("go", 0), ("go", many - 1), ("go", many), ("sign", 0), ("sign", many - 1), ("sign", -1), ("swap", 0, many - 1),
                     ("swap", many - 1, 0), ("swap", 0, 0), ("swap", many, 0), ("swap", 0, many), ("tie", 0, many - 1, 1), ("tie", many - 1, 0, -1),
-                    ("tie", 0, many - 1, 0), ("tie", 0, 0, 1), ("tie", many, 0, 5), ("tie", 0, many, 5), ("tie", 0, many - 1, 2), ("tie", 0, many - 1, True)]
+                    ("tie", 0, many - 1, 0), ("tie", 0, 0, 1), ("tie", many, 0, 5), ("tie", 0, many, 5), ("tie", 0, many - 1, 2), ("tie", 0, many - 1, -2), ("tie", 0, many - 1, True)]
             for change in some:
                 shop, model = self.made(table)
                 self.changes(shop, model, change)
@@ -416,7 +428,7 @@ class ChangeTests(ShopCase):
             self.changes(shop, model, ("promise", promise))
             self.changes(shop, model, ("promise", promise))
         self.assertEqual(len(shop.promises()), 8)
-        for promise in [("low",), ("low",), ("rank", 4), ("rank", 1), ("line",), ("line",)]:
+        for promise in [("low",), ("low",), ("rank", 4), ("rank", True), ("rank", 1), ("line",), ("line",)]:
             self.changes(shop, model, ("drop", promise))
         self.changes(shop, model, ("promise", ("low",)))
         self.same(shop.promises()[-1], ("low",))
