@@ -1,13 +1,13 @@
 """Looped webs between -2 and 2: seats in the greatest tables, or a row beyond, and what can still come."""
 
 from withintwo.beyonds import beyond_row, is_beyond_row, refuse_beyond
-from withintwo.checks import is_headed
+from withintwo.checks import are_integers, is_headed
 from withintwo.errors import BadRow, BadWeb, NotJoined
 from withintwo.greatest import is_seat
 from withintwo.letting import is_let_with, measure_of
 from withintwo.needs import need_looped_web
 from withintwo.seating import c_names, is_held, names_on, s_names, seat_of, t_names
-from withintwo.tables import MOST_PLACES, is_joined, is_row_of, opposite, parts_of, table_within
+from withintwo.tables import MOST_PLACES, is_joined, opposite, parts_of, table_within
 from withintwo.tied import rows_over
 
 
@@ -76,7 +76,7 @@ def places_between(table):
 
 def need_looped_entries(table, c):
     """Refuse a value that is no tuple of entries -1, 0 or 1 with the places of a looped web and itself."""
-    if not is_row_of(table + ((),), c) or not all([-1 <= item <= 1 for item in c]):
+    if not are_integers(c) or len(c) != len(table) + 1 or not all([-1 <= item <= 1 for item in c]):
         raise BadRow(c)
 
 

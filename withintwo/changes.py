@@ -1,10 +1,10 @@
 """What changes and deals make of a signed web and its promises."""
 
 from withintwo.checks import is_integer
-from withintwo.errors import BadChange, BadNumber, BadPlace, BadPromise, Full, LastPlace, TableError
+from withintwo.errors import BadChange, BadNumber, BadPromise, Full, LastPlace, TableError
 from withintwo.growing import need_entries, with_place
 from withintwo.promises import is_promise
-from withintwo.tables import is_place_of, table_within
+from withintwo.tables import need_place, need_two_places, table_within
 
 # How many items the changes with these words have.
 SIZES = {"come": 2, "go": 2, "sign": 2, "swap": 3, "tie": 4, "promise": 2, "drop": 2}
@@ -16,19 +16,6 @@ def is_change(thing):
     if not isinstance(thing, tuple) or len(thing) == 0 or not isinstance(thing[0], str):
         return False
     return thing[0] in SIZES and len(thing) == SIZES[thing[0]]
-
-
-def need_place(web, place):
-    """Refuse a value that is no place of a web."""
-    if not is_place_of(web, place):
-        raise BadPlace(place)
-
-
-def need_two_places(web, one, other):
-    """Refuse values that are no two unlike places of a web."""
-    need_place(web, one)
-    if not is_place_of(web, other) or one == other:
-        raise BadPlace(other)
 
 
 def come(web, c):

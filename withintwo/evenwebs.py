@@ -3,12 +3,12 @@
 from math import isqrt
 
 from withintwo.checks import are_integers, is_headed, is_integer
-from withintwo.errors import BadKind, BadPlace, BadWeb, NotEven
+from withintwo.errors import BadKind, BadWeb, NotEven
 from withintwo.goodwebs import BOUND
 from withintwo.greatest import ones_of
 from withintwo.grids import dotted, weighed
 from withintwo.squares import judged
-from withintwo.tables import is_place_of, is_row_of, table_within
+from withintwo.tables import is_place_of, is_row_of, need_place, table_within
 from withintwo.tied import number_pairs
 
 MOST_EVEN = 16
@@ -287,6 +287,5 @@ def even_name(web):
 def around(web, place):
     """The web around a place; () if it has no neighbours."""
     need_wide_web(web)
-    if not is_place_of(web, place):
-        raise BadPlace(place)
+    need_place(web, place)
     return table_within(web, [other for other in range(len(web)) if web[place][other] == 1])

@@ -1,17 +1,10 @@
 """Mirrors of places, exchanged places, and rows of exchanges to plain bases."""
 
-from withintwo.errors import BadPlace
-from withintwo.goodwebs import need_good, mirror_moved, product_table, rows_of_roots
+from withintwo.goodwebs import mirror_moved, need_good, product_table, rows_of_roots
 from withintwo.grids import rank_of_rows
 from withintwo.heights import is_plain_base
 from withintwo.roots import need_root
-from withintwo.tables import is_place_of
-
-
-def need_place(table, place):
-    """Refuse a value that is no place of a table."""
-    if not is_place_of(table, place):
-        raise BadPlace(place)
+from withintwo.tables import is_place_of, need_place, need_two_places
 
 
 def mirrored(table, root, place):
@@ -77,9 +70,7 @@ def web_exchanged(table, place, other):
 def exchanged(table, place, other):
     """The signed web in which a place is exchanged by another one; None if that fails."""
     need_good(table)
-    need_place(table, place)
-    if not is_place_of(table, other) or other == place:
-        raise BadPlace(other)
+    need_two_places(table, place, other)
     return web_exchanged(table, place, other)
 
 

@@ -42,6 +42,19 @@ def is_place_of(table, thing):
     return is_integer(thing) and 0 <= thing < len(table)
 
 
+def need_place(table, thing):
+    """Refuse a value that is no place of a table, which is not looked at again."""
+    if not is_place_of(table, thing):
+        raise BadPlace(thing)
+
+
+def need_two_places(table, one, other):
+    """Refuse values that are no two unlike places of a table, which is not looked at again."""
+    need_place(table, one)
+    if not is_place_of(table, other) or one == other:
+        raise BadPlace(other)
+
+
 def is_row_of(table, thing):
     """Whether any value is a row for a table, which is not looked at again."""
     return are_integers(thing) and len(thing) == len(table)
@@ -69,8 +82,7 @@ def is_row(table, thing):
 def neighbours(table, place):
     """The lot of the other places with which a place is tied."""
     need_table(table)
-    if not is_place_of(table, place):
-        raise BadPlace(place)
+    need_place(table, place)
     return tuple([other for other in range(len(table)) if other != place and table[place][other] != 0])
 
 

@@ -2,8 +2,8 @@
 
 from withintwo.angles import is_angles, need_angles
 from withintwo.checks import are_integers, is_headed, is_integer
-from withintwo.errors import BadLot, BadPlace, BadTable, BadTriples
-from withintwo.tables import is_lot_of, is_place_of
+from withintwo.errors import BadLot, BadTable, BadTriples
+from withintwo.tables import is_lot_of, need_place
 from withintwo.tied import number_pairs
 
 
@@ -46,12 +46,6 @@ def lot_between(one, other):
         return None
     lot = tuple([place for place in range(len(one)) if one[0][place] != other[0][place]])
     return lot if with_turned(one, lot) == other else None
-
-
-def need_place(table, place):
-    """Refuse a value that is no place of an angle table."""
-    if not is_place_of(table, place):
-        raise BadPlace(place)
 
 
 def need_two_places(table):

@@ -1,9 +1,8 @@
 """The values of a table: how many there are where, which are integers, and the rows kept with them."""
 
-from withintwo.errors import BadPlace
 from withintwo.grids import first_of, powers_of, zero_rows
 from withintwo.ratios import need_fraction
-from withintwo.tables import image_of, is_place_of, is_row_of, need_table
+from withintwo.tables import image_of, is_row_of, need_place, need_table
 from withintwo.valuepolys import changes_among, moved_tops, value_poly
 from withintwo.writings import less_on_diagonal
 
@@ -45,8 +44,7 @@ def bound_of(table):
 def value_at(table, place, bits):
     """The greatest integer m such that m / 2 ** bits is not above the value with the number place."""
     need_table(table)
-    if not is_place_of(table, place):
-        raise BadPlace(place)
+    need_place(table, place)
     return root_at(value_poly(table), bound_of(table), place, bits)
 
 
