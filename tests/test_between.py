@@ -1,6 +1,7 @@
 """[7.1], [7.3] to [7.5] and between.py."""
 
 import itertools
+import math
 import unittest
 from fractions import Fraction
 
@@ -292,10 +293,14 @@ class HoldTests(BetweenCase):
         for table in (FOUR, full_web(4, -1), star_web(5), looped(THREE, (1, 1, 1)), looped(star_web(3), (-1, 0, 0, 0))):
             for edge in itertools.product((great - 1, great, great + 1), (1, 2, -1), (0, 1, great), (great, -great)):
                 self.check(table, ("beyond", (edge + (0, 0))[:len(table)]))
-        root = 1414213562373095048801688724209
-        # A path of four and a loop: its weight 2 x y + 2 y z + z z against 2 (x x + y y + z z).
+        # A star of five weighs (x, y, y, y, y, y) with 10 x y, against 2 x x + 10 y y: beyond between two roots.
+        upper = (5 * great + math.isqrt(5 * great * great)) // 2
+        lower = (5 * great - math.isqrt(5 * great * great) + 1) // 2
+        for x, wanted in ((upper, True), (upper + 1, False), (lower, True), (lower - 1, False), (2 * great, True), (4 * great, False)):
+            for sign in (1, -1):
+                self.check(star_web(5, sign), ("beyond", (x,) + (great,) * 5), wanted)
+                self.check(star_web(5, sign), ("beyond", (-x,) + (great,) * 5), wanted)
         for less in (-1, 0, 1):
-            self.check(star_web(5), ("beyond", (root + less,) + (10 ** 30 // 2,) * 5))
             self.check(star_web(4), ("beyond", (2 * great + less,) + (great,) * 4), False)
 
     def test_any_value(self):
